@@ -11,22 +11,6 @@ import (
 	"shuttlecock/state"
 )
 
-func list(r api.Ring) []int {
-	var out []int
-	for i := range r.N {
-		out = append(out, r.Buf[(r.Head+i)%8])
-	}
-	return out
-}
-
-func laid(head int, l ...int) api.Ring {
-	r := api.Ring{Head: head % 8, N: len(l)}
-	for i, g := range l {
-		r.Buf[(head+i)%8] = g
-	}
-	return r
-}
-
 func zero(s api.State) bool {
 	return sample.SameState(s, api.State{})
 }
@@ -36,25 +20,6 @@ func looks(s api.State, p int) bool {
 	return p >= 1 && p <= s.Procs && s.Ps[p-1].M != 0 && s.Ms[s.Ps[p-1].M-1].G == 0
 }
 
-// run gives G g to P p's M, in place.
-func run(s api.State, p, g int) api.State {
-	m := s.Ps[p-1].M
-	s.Ms[m-1].G = g
-	s.Gs[g-1].Status, s.Gs[g-1].M = 2, m
-	s.Gs[g-1].Seq++
-	return s
-}
-
-func cut(l []int, g int) []int {
-	var out []int
-	for _, n := range l {
-		if n != g {
-			out = append(out, n)
-		}
-	}
-	return out
-}
-
 // started is P14.1 in the chapter's words, done to a state in place.
 func started(s api.State, p, g int) api.State {
 	for i := range s.Ps {
@@ -62,10 +27,11 @@ func started(s api.State, p, g int) api.State {
 		if x.Next == g {
 			x.Next = 0
 		}
-		x.Ring = laid(x.Ring.Head, cut(list(x.Ring), g)...)
+		x.Ring = sample.Laid(x.Ring.Head, sample.Without(sample.List(x.Ring), g)...)
 	}
-	s.Global = cut(s.Global, g)
-	return run(s, p, g)
+	s.Global = sample.Without(s.Global, g)
+	sample.Run(&s, p, g)
+	return s
 }
 
 func TestStart(t *testing.T) {
@@ -107,39 +73,6 @@ func TestStart(t *testing.T) {
 	}
 }
 
-// picked is P14.2 in the chapter's words, done to a state in place.
-func picked(s api.State, p, victim int) (api.State, int) {
-	x := &s.Ps[p-1]
-	g := x.Next
-	if g != 0 {
-		x.Next = 0
-		return run(s, p, g), g
-	}
-	if l := list(x.Ring); len(l) > 0 {
-		x.Ring = laid(x.Ring.Head+1, l[1:]...)
-		return run(s, p, l[0]), l[0]
-	}
-	if len(s.Global) > 0 {
-		g, s.Global = s.Global[0], s.Global[1:]
-		return run(s, p, g), g
-	}
-	if victim < 1 || victim > s.Procs || victim == p {
-		return s, 0
-	}
-	v := &s.Ps[victim-1]
-	if l := list(v.Ring); len(l) > 0 {
-		half := (len(l) + 1) / 2
-		v.Ring = laid(v.Ring.Head+half, l[half:]...)
-		x.Ring = laid(x.Ring.Head, l[1:half]...)
-		return run(s, p, l[0]), l[0]
-	}
-	if g = v.Next; g != 0 {
-		v.Next = 0
-		return run(s, p, g), g
-	}
-	return s, 0
-}
-
 // poorer empties queues of a state, so that a P has to look further: their Gs are dead.
 func poorer(s api.State, p, how int) api.State {
 	bury := func(l ...int) {
@@ -155,7 +88,7 @@ func poorer(s api.State, p, how int) api.State {
 		x.Next = 0
 	}
 	if how > 1 {
-		bury(list(x.Ring)...)
+		bury(sample.List(x.Ring)...)
 		x.Ring = api.Ring{Head: x.Ring.Head}
 	}
 	if how > 2 {
@@ -164,7 +97,7 @@ func poorer(s api.State, p, how int) api.State {
 	}
 	for i := range s.Ps {
 		if how > 3 && i != p-1 {
-			bury(list(s.Ps[i].Ring)...)
+			bury(sample.List(s.Ps[i].Ring)...)
 			s.Ps[i].Ring = api.Ring{Head: s.Ps[i].Ring.Head}
 		}
 		if how > 4 && i != p-1 {
@@ -188,7 +121,8 @@ func TestPick(t *testing.T) {
 				}
 				s := poorer(sample.State(n), p, how)
 				for _, victim := range []int{1, 2, 3, 4, 5, 6, 7, 8, 0, -1, 9, math.MinInt, math.MaxInt} {
-					want, wg := picked(state.Copy(s), p, victim)
+					want := poorer(sample.State(n), p, how)
+					wg := sample.Pick(&want, p, victim)
 					got, g, e := find.Pick(s, p, victim)
 					if !sample.SameState(got, want) || g != wg || e != api.OK {
 						t.Fatalf("sample %d, poorer by %d: Pick(%d, %d) = %+v, %d, %d, want %+v, %d", n, how, p, victim, got, g, e, want, wg)
@@ -226,12 +160,12 @@ func two() api.State {
 func TestPickOfTheExample(t *testing.T) {
 	s := two()
 	s.Ps[0].Ring.Head = 6
-	s.Ps[1].Ring = laid(7, 1, 2, 3)
+	s.Ps[1].Ring = sample.Laid(7, 1, 2, 3)
 	for g := range 3 {
 		s.Gs[g].Status = 1
 	}
 	got, g, e := find.Pick(s, 1, 2)
-	if g != 1 || e != api.OK || got.Ps[0].Ring != laid(6, 2) || got.Ps[1].Ring != laid(1, 3) || got.Gs[0] != (api.G{Status: 2, M: 1, Seq: 1}) || got.Ms[0] != (api.M{P: 1, G: 1}) {
+	if g != 1 || e != api.OK || got.Ps[0].Ring != sample.Laid(6, 2) || got.Ps[1].Ring != sample.Laid(1, 3) || got.Gs[0] != (api.G{Status: 2, M: 1, Seq: 1}) || got.Ms[0] != (api.M{P: 1, G: 1}) {
 		t.Errorf("%+v, %d, %d", got, g, e)
 	}
 }
@@ -239,13 +173,13 @@ func TestPickOfTheExample(t *testing.T) {
 func TestPickOfAFullVictim(t *testing.T) {
 	s := two()
 	s.Ps[0].Ring.Head = 5
-	s.Ps[1].Ring = laid(2, 8, 7, 6, 5, 4, 3, 2, 1)
+	s.Ps[1].Ring = sample.Laid(2, 8, 7, 6, 5, 4, 3, 2, 1)
 	s.Ps[1].Next = 9
 	for g := range 9 {
 		s.Gs[g].Status = 1
 	}
 	got, g, e := find.Pick(s, 1, 2)
-	if g != 8 || e != api.OK || got.Ps[0].Ring != laid(5, 7, 6, 5) || got.Ps[1].Ring != laid(6, 4, 3, 2, 1) || got.Ps[1].Next != 9 {
+	if g != 8 || e != api.OK || got.Ps[0].Ring != sample.Laid(5, 7, 6, 5) || got.Ps[1].Ring != sample.Laid(6, 4, 3, 2, 1) || got.Ps[1].Next != 9 {
 		t.Errorf("%+v, %d, %d", got, g, e)
 	}
 }

@@ -11,46 +11,16 @@ import (
 	"shuttlecock/state"
 )
 
-// list is a ring's list, by its buffer.
-func list(r api.Ring) []int {
-	var out []int
-	for i := range r.N {
-		out = append(out, r.Buf[(r.Head+i)%8])
-	}
-	return out
-}
-
-func laid(head int, l ...int) api.Ring {
-	r := api.Ring{Head: head % 8, N: len(l)}
-	for i, g := range l {
-		r.Buf[(head+i)%8] = g
-	}
-	return r
-}
-
-// appended is the chapter's word: a G appended to a P's ring, done to a copy in place.
-func appended(s api.State, p, g int) api.State {
-	x := &s.Ps[p-1]
-	l := list(x.Ring)
-	if len(l) < 8 {
-		x.Ring = laid(x.Ring.Head, append(l, g)...)
-		return s
-	}
-	s.Global = slices.Concat(s.Global, l[:4], []int{g})
-	x.Ring = laid(x.Ring.Head+4, l[4:]...)
-	return s
-}
-
 func zero(s api.State) bool {
 	return sample.SameState(s, api.State{})
 }
 
 func TestTailOfTheExample(t *testing.T) {
 	s := sample.State(0)
-	s.Ps[0].Ring = laid(0, 1, 2, 3, 4, 5, 6, 7, 8)
+	s.Ps[0].Ring = sample.Laid(0, 1, 2, 3, 4, 5, 6, 7, 8)
 	s.Global = nil
 	got := ready.Tail(s, 1, 9)
-	if got.Ps[0].Ring != laid(4, 5, 6, 7, 8) || !slices.Equal(got.Global, []int{1, 2, 3, 4, 9}) {
+	if got.Ps[0].Ring != sample.Laid(4, 5, 6, 7, 8) || !slices.Equal(got.Global, []int{1, 2, 3, 4, 9}) {
 		t.Errorf("ring %v, global %v", got.Ps[0].Ring, got.Global)
 	}
 }
@@ -61,7 +31,9 @@ func TestTail(t *testing.T) {
 			for _, g := range []int{1, 5, 77, 5000, math.MaxInt} {
 				s := sample.State(n)
 				got := ready.Tail(s, p, g)
-				if want := appended(sample.State(n), p, g); !sample.SameState(got, want) {
+				want := sample.State(n)
+				sample.Append(&want, p, g)
+				if !sample.SameState(got, want) {
 					t.Fatalf("sample %d: Tail(%d, %d): %+v", n, p, g, got)
 				}
 				if !sample.SameState(s, sample.State(n)) {
@@ -80,8 +52,9 @@ func TestTailOfEachRing(t *testing.T) {
 			for i := range n {
 				l = append(l, i+10)
 			}
-			s.Ps[1].Ring = laid(head, l...)
-			want := appended(state.Copy(s), 2, 99)
+			s.Ps[1].Ring = sample.Laid(head, l...)
+			want := state.Copy(s)
+			sample.Append(&want, 2, 99)
 			if got := ready.Tail(s, 2, 99); !sample.SameState(got, want) {
 				t.Errorf("Tail of %v: %v, %v", s.Ps[1].Ring, got.Ps[1].Ring, got.Global)
 			}
@@ -109,39 +82,6 @@ func TestTailOfWrongArguments(t *testing.T) {
 	}
 }
 
-// cut takes a G out of a list.
-func cut(l []int, g int) []int {
-	var out []int
-	for _, n := range l {
-		if n != g {
-			out = append(out, n)
-		}
-	}
-	return out
-}
-
-// woken is P13.2 in the chapter's words.
-func woken(s api.State, p, g int) api.State {
-	for i := range s.Waits {
-		s.Waits[i] = cut(s.Waits[i], g)
-	}
-	var timers []api.Timer
-	for _, x := range s.Timers {
-		if x.G != g {
-			timers = append(timers, x)
-		}
-	}
-	s.Timers = timers
-	s.Gs[g-1].Status = 1
-	s.Gs[g-1].Seq++
-	old := s.Ps[p-1].Next
-	s.Ps[p-1].Next = g
-	if old != 0 {
-		s = appended(s, p, old)
-	}
-	return s
-}
-
 func TestWake(t *testing.T) {
 	done := 0
 	for n := range 150 {
@@ -159,7 +99,9 @@ func TestWake(t *testing.T) {
 					continue
 				}
 				done++
-				if want := woken(sample.State(n), p, g); !sample.SameState(got, want) || e != api.OK {
+				want := sample.State(n)
+				sample.Wake(&want, p, g)
+				if !sample.SameState(got, want) || e != api.OK {
 					t.Fatalf("sample %d: Wake(%d, %d) = %+v, %d, want %+v", n, p, g, got, e, want)
 				}
 				if !state.May(got) {
@@ -183,22 +125,12 @@ func TestWakeOntoAFullRing(t *testing.T) {
 	}
 	s.Gs[9].Status, s.Gs[10].Status, s.Gs[11].Status = 3, 3, 3
 	s.Ps[0].Next = 9
-	s.Ps[0].Ring = laid(6, 1, 2, 3, 4, 5, 6, 7, 8)
+	s.Ps[0].Ring = sample.Laid(6, 1, 2, 3, 4, 5, 6, 7, 8)
 	s.Waits[2] = []int{11, 10, 12}
 	got, e := ready.Wake(s, 1, 10)
-	if e != api.OK || got.Ps[0].Next != 10 || got.Ps[0].Ring != laid(2, 5, 6, 7, 8) || !slices.Equal(got.Global, []int{1, 2, 3, 4, 9}) || !slices.Equal(got.Waits[2], []int{11, 12}) {
+	if e != api.OK || got.Ps[0].Next != 10 || got.Ps[0].Ring != sample.Laid(2, 5, 6, 7, 8) || !slices.Equal(got.Global, []int{1, 2, 3, 4, 9}) || !slices.Equal(got.Waits[2], []int{11, 12}) {
 		t.Errorf("%+v, %d", got, e)
 	}
-}
-
-// yielded is P13.3 in the chapter's words.
-func yielded(s api.State, m int) api.State {
-	g := s.Ms[m-1].G
-	s.Ms[m-1].G = 0
-	s.Gs[g-1].Status, s.Gs[g-1].M = 1, 0
-	s.Gs[g-1].Seq++
-	s.Global = append(s.Global, g)
-	return s
 }
 
 func TestYield(t *testing.T) {
@@ -214,7 +146,9 @@ func TestYield(t *testing.T) {
 				continue
 			}
 			done++
-			if want := yielded(sample.State(n), m); !sample.SameState(got, want) || e != api.OK || !state.May(got) {
+			want := sample.State(n)
+			sample.Yield(&want, m)
+			if !sample.SameState(got, want) || e != api.OK || !state.May(got) {
 				t.Fatalf("sample %d: Yield(%d) = %+v, %d, want %+v", n, m, got, e, want)
 			}
 		}
@@ -235,7 +169,7 @@ func TestDrain(t *testing.T) {
 			if next := want.Ps[p-1].Next; next != 0 {
 				want.Global = append(want.Global, next)
 			}
-			want.Global = append(want.Global, list(want.Ps[p-1].Ring)...)
+			want.Global = append(want.Global, sample.List(want.Ps[p-1].Ring)...)
 			want.Ps[p-1].Next, want.Ps[p-1].Ring = 0, api.Ring{}
 			if got, e := ready.Drain(s, p); !sample.SameState(got, want) || e != api.OK || !state.May(got) {
 				t.Fatalf("sample %d: Drain(%d) = %+v, %d, want %+v", n, p, got, e, want)

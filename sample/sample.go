@@ -161,11 +161,7 @@ func (m *maker) wait(g int) {
 		m.s.Waits[sem] = append(m.s.Waits[sem], g)
 		return
 	}
-	l := append(m.s.Timers, api.Timer{At: m.s.Clock + m.Roll(21) - min(m.s.Clock, 10), G: g})
-	for i := len(l) - 1; i > 0 && (l[i].At < l[i-1].At || l[i].At == l[i-1].At && l[i].G < l[i-1].G); i-- {
-		l[i], l[i-1] = l[i-1], l[i]
-	}
-	m.s.Timers = l
+	m.s.Timers = timed(m.s.Timers, api.Timer{At: m.s.Clock + m.Roll(21) - min(m.s.Clock, 10), G: g})
 }
 
 func (m *maker) enqueue(g int) {
