@@ -231,3 +231,95 @@ func timed(l []api.Timer, t api.Timer) []api.Timer {
 	}
 	return l
 }
+
+// Do does to a state in place what the document says of a script's item.
+func Do(s *api.State, x api.Item) []api.Log {
+	switch {
+	case x.Do == api.ItStep && x.N >= 1 && x.N <= s.Procs:
+		return step(s, x.N, x.Victim)
+	case x.Do == api.ItExit && x.N >= 1 && x.N <= len(s.Ms) && s.Ms[x.N-1].G != 0 && s.Ms[x.N-1].P == 0:
+		return exit(s, x.N)
+	case x.Do == api.ItTick && x.N >= 0 && x.N <= 1000000 && s.Clock+x.N < 1<<61:
+		s.Clock += x.N
+	case x.Do == api.ItProcs && x.N >= 1 && x.N <= api.MaxPs:
+		return resize(s, x.N)
+	}
+	return nil
+}
+
+func step(s *api.State, p, victim int) []api.Log {
+	m := s.Ps[p-1].M
+	if m == 0 {
+		return start(s, p)
+	}
+	if s.Ms[m-1].G != 0 {
+		return Exec(s, m)
+	}
+	var out []api.Log
+	for len(s.Timers) > 0 && s.Timers[0].At <= s.Clock {
+		g := s.Timers[0].G
+		out = append(out, api.Log{Time: s.Clock, M: m, Kind: api.KUnblock, G: g, Seq: s.Gs[g-1].Seq})
+		Wake(s, p, g)
+	}
+	if g := Pick(s, p, victim); g != 0 {
+		return append(out, api.Log{Time: s.Clock, M: m, Kind: api.KStart, G: g, Seq: s.Gs[g-1].Seq - 1})
+	}
+	part(s, p)
+	return append(out, api.Log{Time: s.Clock, M: m, Kind: api.KProcStop, P: p})
+}
+
+func start(s *api.State, p int) []api.Log {
+	m := 1
+	for m <= len(s.Ms) && s.Ms[m-1] != (api.M{}) {
+		m++
+	}
+	if m > api.MaxMs {
+		return nil
+	}
+	if m > len(s.Ms) {
+		s.Ms = append(s.Ms, api.M{})
+	}
+	join(s, p, m)
+	return []api.Log{{Time: s.Clock, M: m, Kind: api.KProcStart, P: p, Seq: s.Ps[p-1].Seq - 1}}
+}
+
+func exit(s *api.State, m int) []api.Log {
+	g := s.Ms[m-1].G
+	l := api.Log{Time: s.Clock, M: m, Kind: api.KSysExit, G: g}
+	for p := 1; p <= s.Procs; p++ {
+		if s.Ps[p-1].M != 0 {
+			continue
+		}
+		l.P, l.Seq = p, s.Ps[p-1].Seq
+		join(s, p, m)
+		s.Gs[g-1].Status = api.GRunning
+		s.Gs[g-1].Seq++
+		return []api.Log{l}
+	}
+	off(s, m, api.GRunnable)
+	s.Global = append(s.Global, g)
+	return []api.Log{l}
+}
+
+func resize(s *api.State, n int) []api.Log {
+	var out []api.Log
+	for p := n + 1; p <= s.Procs; p++ {
+		x := &s.Ps[p-1]
+		if m := x.M; m != 0 {
+			if g := s.Ms[m-1].G; g != 0 {
+				at := api.Frame{Func: "f" + strconv.Itoa(s.Gs[g-1].Func), Line: s.Gs[g-1].PC + 1}
+				out = append(out, api.Log{Time: s.Clock, M: m, Kind: api.KStop, G: g, Why: "preempt", Stack: []api.Frame{at}})
+				Yield(s, m)
+			}
+			part(s, p)
+			out = append(out, api.Log{Time: s.Clock, M: m, Kind: api.KProcStop, P: p})
+		}
+		if x.Next != 0 {
+			s.Global = append(s.Global, x.Next)
+		}
+		s.Global = append(s.Global, List(x.Ring)...)
+		x.Next, x.Ring = 0, api.Ring{}
+	}
+	s.Procs = n
+	return out
+}
