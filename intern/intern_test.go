@@ -75,6 +75,7 @@ func good() []api.Table {
 		some(),
 		{Strings: []string{"a"}, Stacks: [][][2]int{{{1, 0}}, {{1, 1}}, {{1, 0}, {1, 0}}, frames(100, 7), frames(99, 7)}},
 		{Strings: []string{"a", "b"}, Stacks: [][][2]int{{{1, 2}, {2, 1}}, {{2, 1}, {1, 2}}, {{1, 1}, {2, 2}}}},
+		{Strings: []string{"a", "b"}, Stacks: [][][2]int{{{1, 2}, {1, 3}}, {{1, 2}, {1, 4}}, {{1, 2}, {2, 3}}, {{2, 2}, {1, 3}}, {{1, 1}, {1, 3}}, {{1, 2}, {1, 3}, {1, 5}}, {{1, 2}, {1, 3}, {1, 6}}}},
 		{Strings: texts(300), Stacks: [][][2]int{{{1, 300}}, {{300, 1}}, {{1, 3}, {2, 1}}, {{1, 3}}}},
 		{Strings: texts(10000)},
 		{Strings: []string{"a"}, Stacks: stacks(10000)},
@@ -270,6 +271,28 @@ func TestStack(t *testing.T) {
 	}
 	if !same(x, want) {
 		t.Errorf("table: %v", x)
+	}
+}
+
+func TestStacksThatAreAlmostTheSame(t *testing.T) {
+	x := api.Table{}
+	for i, l := range [][]api.Frame{
+		{at("a", 1), at("b", 2), at("c", 3)},
+		{at("a", 9), at("b", 2), at("c", 3)},
+		{at("a", 1), at("b", 9), at("c", 3)},
+		{at("a", 1), at("b", 2), at("c", 9)},
+		{at("c", 1), at("b", 2), at("c", 3)},
+		{at("a", 1), at("a", 2), at("c", 3)},
+		{at("a", 1), at("b", 2), at("a", 3)},
+		{at("a", 1), at("b", 2)},
+	} {
+		for range 2 {
+			y, id := intern.Stack(x, l)
+			if id != i+1 || !intern.May(y) {
+				t.Errorf("stack %d is %d", i+1, id)
+			}
+			x = y
+		}
 	}
 }
 
