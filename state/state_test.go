@@ -472,6 +472,29 @@ func TestMayOfEachCondition(t *testing.T) {
 	}
 }
 
+func TestMayOfAStateWithNothingElseWrong(t *testing.T) {
+	first := func() api.State {
+		s, _ := state.New(api.Program{nil}, 1)
+		return s
+	}
+	for i, change := range []func(*api.State){
+		func(s *api.State) { s.Gs, s.Global = nil, nil },
+		func(s *api.State) { s.Procs = 0 },
+		func(s *api.State) { s.Procs = -1 },
+		func(s *api.State) { s.Procs = 9 },
+		func(s *api.State) { s.Ms = make([]api.M, 1001) },
+		func(s *api.State) { s.Gs = append(s.Gs, slices.Repeat([]api.G{{Status: 5}}, 1000)...) },
+		func(s *api.State) { s.Ps = append(s.Ps, api.P{}) },
+		func(s *api.State) { s.Ps = s.Ps[:7] },
+		func(s *api.State) { s.Prog = make(api.Program, 9) },
+	} {
+		s := first()
+		if change(&s); !state.May(first()) || state.May(s) {
+			t.Errorf("after change %d the state may be: %+v", i, s)
+		}
+	}
+}
+
 func TestMayUpToTheLimits(t *testing.T) {
 	for i, change := range []func(*api.State){
 		func(s *api.State) { s.Ms = append(s.Ms, make([]api.M, 996)...) },
