@@ -85,6 +85,13 @@ func TestPlaces(t *testing.T) {
 		"step 1 0", "ok 1", "place 4", "place 8 0", "procs 8", "ok 0", "step 8 1", "ok 1", "step 8 1", "ok 1", "place 3", "place 2 1", "place 1", "place 4 2")
 }
 
+func TestVictims(t *testing.T) {
+	talk(t, "victims", "prog spawn 1; spawn 1; spawn 1; spawn 1; work | -", "ok", "step 1 0", "ok 1", "step 1 0", "ok 1",
+		"step 1 0", "ok 1", "step 1 0", "ok 1", "step 1 0", "ok 1", "step 1 0", "ok 1", "procs 2", "ok 0",
+		"step 2 1", "ok 1", "step 2 0", "ok 1", "place 2", "place 2 1", "step 2 0", "ok 1", "step 2 1", "ok 1",
+		"place 2", "place 4 2", "place 3", "place 2 2", "place 4", "place 2 1", "place 5", "place 1 1")
+}
+
 func TestOff(t *testing.T) {
 	talk(t, "off", "prog -", "ok", "flush 1", "off", "next", "off", "stop", "off", "trace 0", "error 1", "flush 1", "off", "trace 4097", "error 1", "stop", "off",
 		"trace 1", "ok", "flush 7", "ok", "trace 0", "error 1", "next", "ok", "stop", "ok 75", "stop", "off", "parse", "ok 2 0", "trace 4096", "ok", "stop", "ok 40")
