@@ -10,11 +10,8 @@ import (
 
 	"shuttlecock/api"
 	"shuttlecock/intern"
+	"shuttlecock/sample"
 )
-
-func same(a, b api.Table) bool {
-	return slices.Equal(a.Strings, b.Strings) && slices.EqualFunc(a.Stacks, b.Stacks, func(x, y [][2]int) bool { return slices.Equal(x, y) })
-}
 
 func empty(t api.Table) bool {
 	return len(t.Strings) == 0 && len(t.Stacks) == 0
@@ -186,15 +183,15 @@ func TestString(t *testing.T) {
 	if !slices.Equal(ids, []int{1, 2, 1, 0, 3, 2, 4, 0, 5}) {
 		t.Errorf("numbers: %v", ids)
 	}
-	if !same(x, api.Table{Strings: []string{"a", "b", "c", long(1000), long(999)}}) {
+	if !sample.SameTable(x, api.Table{Strings: []string{"a", "b", "c", long(1000), long(999)}}) {
 		t.Errorf("table: %v", x)
 	}
 	for i, x := range good() {
-		if y, id := intern.String(x, ""); !same(x, y) || id != 0 {
+		if y, id := intern.String(x, ""); !sample.SameTable(x, y) || id != 0 {
 			t.Errorf("table %d: the empty string is %d", i, id)
 		}
 		for id := 1; id <= len(x.Strings); id += 1 + len(x.Strings)/5 {
-			if y, got := intern.String(x, x.Strings[id-1]); !same(x, y) || got != id {
+			if y, got := intern.String(x, x.Strings[id-1]); !sample.SameTable(x, y) || got != id {
 				t.Errorf("table %d: string %d is %d", i, id, got)
 			}
 		}
@@ -208,7 +205,7 @@ func TestString(t *testing.T) {
 			if !empty(y) || id != 0 {
 				t.Errorf("table %d: string 10001 is %d", i, id)
 			}
-		} else if !same(y, want) || id != len(want.Strings) {
+		} else if !sample.SameTable(y, want) || id != len(want.Strings) {
 			t.Errorf("table %d: a new string is %d", i, id)
 		}
 	}
@@ -229,7 +226,7 @@ func TestStringUpToTheLimit(t *testing.T) {
 	if y, id := intern.String(x, "more"); !empty(y) || id != 0 {
 		t.Errorf("string 10001 is %d", id)
 	}
-	if y, id := intern.String(x, "last"); !same(x, y) || id != 10000 {
+	if y, id := intern.String(x, "last"); !sample.SameTable(x, y) || id != 10000 {
 		t.Errorf("string 10000 is %d again", id)
 	}
 }
@@ -269,7 +266,7 @@ func TestStack(t *testing.T) {
 		Strings: []string{"z", "a", "b", "c", "m"},
 		Stacks:  [][][2]int{{{2, 1}}, {{2, 2}}, {{3, 1}, {4, 0}, {3, 7}, {2, 1}}, {{2, 1}, {3, 7}, {4, 0}, {3, 1}}, {{1, api.Most - 1}}, {{2, 1}, {2, 1}}, m(100), m(99)},
 	}
-	if !same(x, want) {
+	if !sample.SameTable(x, want) {
 		t.Errorf("table: %v", x)
 	}
 }
@@ -327,7 +324,7 @@ func TestStackUpToTheLimits(t *testing.T) {
 	if y, id := intern.Stack(all, []api.Frame{at("s0", 1), at("new", 1)}); !empty(y) || id != 0 {
 		t.Errorf("a stack with string 10001 is %d", id)
 	}
-	if y, id := intern.Stack(all, []api.Frame{at("s9999", 3)}); !same(y, all) || id != 1 {
+	if y, id := intern.Stack(all, []api.Frame{at("s9999", 3)}); !sample.SameTable(y, all) || id != 1 {
 		t.Errorf("a stack of full strings is %d", id)
 	}
 	if y, id := intern.Stack(all, []api.Frame{at("s9999", 4)}); len(y.Stacks) != 2 || id != 2 {
@@ -344,10 +341,10 @@ func TestStackUpToTheLimits(t *testing.T) {
 	if y, id := intern.Stack(full, []api.Frame{at("b", 1)}); !empty(y) || id != 0 {
 		t.Errorf("stack 10001 with a new string is %d", id)
 	}
-	if y, id := intern.Stack(full, []api.Frame{at("a", 10001)}); !same(y, full) || id != 10000 {
+	if y, id := intern.Stack(full, []api.Frame{at("a", 10001)}); !sample.SameTable(y, full) || id != 10000 {
 		t.Errorf("stack 10000 is %d again", id)
 	}
-	if y, id := intern.Stack(full, nil); !same(y, full) || id != 0 {
+	if y, id := intern.Stack(full, nil); !sample.SameTable(y, full) || id != 0 {
 		t.Errorf("no frames are %d", id)
 	}
 }
@@ -423,19 +420,19 @@ func TestAnswersAreNewMemory(t *testing.T) {
 	} {
 		x := roomy()
 		y, _ := do(x)
-		if !same(x, some()) || x.Strings[:4][3] != "" || x.Stacks[:5][4] != nil {
+		if !sample.SameTable(x, some()) || x.Strings[:4][3] != "" || x.Stacks[:5][4] != nil {
 			t.Errorf("call %d changes its argument", i)
 		}
 		keep := clone(y)
 		scribble(x)
-		if !same(y, keep) {
+		if !sample.SameTable(y, keep) {
 			t.Errorf("call %d: the answer shares memory with the argument", i)
 		}
 	}
 	x := some()
 	l, _ := intern.Frames(x, 2)
 	l[0].Func = "scribble"
-	if again, _ := intern.Frames(x, 2); again[0].Func != "work" || !same(x, some()) {
+	if again, _ := intern.Frames(x, 2); again[0].Func != "work" || !sample.SameTable(x, some()) {
 		t.Error("frames share memory with the table")
 	}
 }

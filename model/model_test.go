@@ -10,25 +10,11 @@ import (
 	"shuttlecock/sample"
 )
 
-// snapOf is P17.1 in the chapter's words.
-func snapOf(s api.State) api.Snap {
-	x := api.Snap{Time: s.Clock}
-	for _, p := range s.Ps {
-		x.Ps = append(x.Ps, api.PStat{M: p.M, Seq: p.Seq})
-	}
-	for i, g := range s.Gs {
-		if g.Status != 5 {
-			x.Gs = append(x.Gs, api.GStat{G: i + 1, Status: g.Status, M: g.M, Seq: g.Seq})
-		}
-	}
-	return x
-}
-
 func TestOf(t *testing.T) {
 	for n := range 300 {
 		s := sample.State(n)
-		if x := model.Of(s); !sample.SameSnap(x, snapOf(s)) {
-			t.Fatalf("sample %d: %+v, want %+v", n, x, snapOf(s))
+		if x := model.Of(s); !sample.SameSnap(x, sample.Snap(s)) {
+			t.Fatalf("sample %d: %+v, want %+v", n, x, sample.Snap(s))
 		}
 		if !sample.SameState(s, sample.State(n)) {
 			t.Fatalf("sample %d: the argument is changed", n)
@@ -96,7 +82,7 @@ func TestHas(t *testing.T) {
 	for n := range 100 {
 		s := sample.State(n)
 		for i, m := range s.Ms {
-			if p, g := model.Has(snapOf(s), i+1); p != m.P || g != m.G {
+			if p, g := model.Has(sample.Snap(s), i+1); p != m.P || g != m.G {
 				t.Fatalf("sample %d: Has of M %d = %d, %d, want %v", n, i+1, p, g, m)
 			}
 		}
@@ -379,7 +365,7 @@ func applied(x api.Snap, l api.Log) (api.Snap, bool) {
 func TestApplyOfAnyEntries(t *testing.T) {
 	var fine, wrong [12]int
 	for n := range 400 {
-		x := snapOf(sample.State(n))
+		x := sample.Snap(sample.State(n))
 		if len(x.Gs) > 100 {
 			continue
 		}
@@ -417,7 +403,7 @@ func TestApplyOfAnyEntries(t *testing.T) {
 				wrong[l.Kind]++
 			}
 		}
-		if !sample.SameSnap(x, snapOf(sample.State(n))) {
+		if !sample.SameSnap(x, sample.Snap(sample.State(n))) {
 			t.Fatalf("sample %d: the argument is changed", n)
 		}
 	}
@@ -438,7 +424,7 @@ func TestEveryTransitionOfTheSchedulerIsPossible(t *testing.T) {
 				}
 				x = next
 			}
-			if want := snapOf(s); !slices.Equal(x.Ps, want.Ps) || !slices.Equal(x.Gs, want.Gs) {
+			if want := sample.Snap(s); !slices.Equal(x.Ps, want.Ps) || !slices.Equal(x.Gs, want.Gs) {
 				t.Fatalf("sample %d, item %d: %+v, want %+v", n, i, x, want)
 			}
 		}
@@ -450,7 +436,7 @@ func TestAnswersAreNewMemory(t *testing.T) {
 	x := model.Of(s)
 	clear(s.Gs)
 	clear(s.Ps)
-	if !sample.SameSnap(x, snapOf(sample.State(3))) {
+	if !sample.SameSnap(x, sample.Snap(sample.State(3))) {
 		t.Error("a snapshot shares memory with the state")
 	}
 	for _, l := range []api.Log{{Time: 10, M: 1, Kind: 3, G: 3}, {Time: 10, M: 1, Kind: 5, G: 2}, {Time: 10, M: 1, Kind: 8, G: 2}} {

@@ -21,6 +21,10 @@ func SameState(a, b api.State) bool {
 		slices.Equal(a.Global, b.Global) && a.Count == b.Count && slices.Equal(a.Timers, b.Timers) && a.Clock == b.Clock && a.Procs == b.Procs
 }
 
+func SameTable(a, b api.Table) bool {
+	return slices.Equal(a.Strings, b.Strings) && slices.EqualFunc(a.Stacks, b.Stacks, func(x, y [][2]int) bool { return slices.Equal(x, y) })
+}
+
 func SameSnap(a, b api.Snap) bool {
 	return a.Time == b.Time && slices.Equal(a.Ps, b.Ps) && slices.Equal(a.Gs, b.Gs)
 }

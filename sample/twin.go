@@ -323,3 +323,17 @@ func resize(s *api.State, n int) []api.Log {
 	s.Procs = n
 	return out
 }
+
+// Snap is what the document calls the snapshot of a state.
+func Snap(s api.State) api.Snap {
+	x := api.Snap{Time: s.Clock}
+	for _, p := range s.Ps {
+		x.Ps = append(x.Ps, api.PStat{M: p.M, Seq: p.Seq})
+	}
+	for i, g := range s.Gs {
+		if g.Status != api.GDead {
+			x.Gs = append(x.Gs, api.GStat{G: i + 1, Status: g.Status, M: g.M, Seq: g.Seq})
+		}
+	}
+	return x
+}

@@ -10,14 +10,11 @@ import (
 
 	"shuttlecock/api"
 	"shuttlecock/intern"
+	"shuttlecock/sample"
 	"shuttlecock/table"
 	"shuttlecock/varint"
 	"shuttlecock/wire"
 )
-
-func same(a, b api.Table) bool {
-	return slices.Equal(a.Strings, b.Strings) && slices.EqualFunc(a.Stacks, b.Stacks, func(x, y [][2]int) bool { return slices.Equal(x, y) })
-}
 
 func empty(t api.Table) bool {
 	return len(t.Strings) == 0 && len(t.Stacks) == 0
@@ -135,7 +132,7 @@ func TestOrder(t *testing.T) {
 			if s != oracle(x, order, stackOrder) {
 				t.Fatalf("table %d, %v, %v: %.60q", i, order, stackOrder, s)
 			}
-			if y, at, e := table.Decode(s); !same(x, y) || at != len(s) || e != api.OK {
+			if y, at, e := table.Decode(s); !sample.SameTable(x, y) || at != len(s) || e != api.OK {
 				t.Fatalf("table %d, %v, %v: read back at %d, %d", i, order, stackOrder, at, e)
 			}
 		}
@@ -166,12 +163,12 @@ func TestOrderOfWrongLists(t *testing.T) {
 func TestDecode(t *testing.T) {
 	for i, x := range good() {
 		s := table.Encode(x)
-		if y, at, e := table.Decode(s); !same(x, y) || at != len(s) || e != api.OK {
+		if y, at, e := table.Decode(s); !sample.SameTable(x, y) || at != len(s) || e != api.OK {
 			t.Errorf("table %d: at %d, %d", i, at, e)
 		}
 	}
 	y, at, e := table.Decode("\x02\x02\x01b\x01\x01a\x02\x02\x01\x01\x05\x01\x01\x02\x05")
-	if !same(y, api.Table{Strings: []string{"a", "b"}, Stacks: [][][2]int{{{2, 5}}, {{1, 5}}}}) || at != 16 || e != api.OK {
+	if !sample.SameTable(y, api.Table{Strings: []string{"a", "b"}, Stacks: [][][2]int{{{2, 5}}, {{1, 5}}}}) || at != 16 || e != api.OK {
 		t.Errorf("a table in another order: %v, %d, %d", y, at, e)
 	}
 }
@@ -179,7 +176,7 @@ func TestDecode(t *testing.T) {
 func TestDecodeUpToTheLimits(t *testing.T) {
 	all := api.Table{Strings: texts(10000), Stacks: stacks(10000)}
 	s := table.Encode(all)
-	if y, at, e := table.Decode(s); !same(all, y) || at != len(s) || e != api.OK {
+	if y, at, e := table.Decode(s); !sample.SameTable(all, y) || at != len(s) || e != api.OK {
 		t.Errorf("a full table: at %d, %d", at, e)
 	}
 }
@@ -379,7 +376,7 @@ func TestDecodeOfAnyBytes(t *testing.T) {
 		s := string(b)
 		y, at, e := table.Decode(s)
 		wy, wat, we := wanted(s)
-		if !same(y, wy) || at != wat || e != we {
+		if !sample.SameTable(y, wy) || at != wat || e != we {
 			t.Fatalf("Decode(%q) = %v, %d, %d, want %v, %d, %d", s, y, at, e, wy, wat, we)
 		}
 		if e == api.OK {
@@ -395,7 +392,7 @@ func TestArgumentsStay(t *testing.T) {
 	x, order := some(), []int{3, 1, 2}
 	table.Encode(x)
 	table.Order(x, order, order)
-	if !same(x, some()) || !slices.Equal(order, []int{3, 1, 2}) {
+	if !sample.SameTable(x, some()) || !slices.Equal(order, []int{3, 1, 2}) {
 		t.Error("an argument is changed")
 	}
 }

@@ -18,12 +18,8 @@ import (
 	"shuttlecock/wire"
 )
 
-func sameTable(a, b api.Table) bool {
-	return slices.Equal(a.Strings, b.Strings) && slices.EqualFunc(a.Stacks, b.Stacks, func(x, y [][2]int) bool { return slices.Equal(x, y) })
-}
-
 func sameTracer(a, b api.Tracer) bool {
-	return a.Size == b.Size && a.Gen == b.Gen && slices.Equal(a.Bufs, b.Bufs) && sameTable(a.Table, b.Table) && a.Out == b.Out
+	return a.Size == b.Size && a.Gen == b.Gen && slices.Equal(a.Bufs, b.Bufs) && sample.SameTable(a.Table, b.Table) && a.Out == b.Out
 }
 
 func zero(x api.Tracer) bool {
@@ -151,7 +147,7 @@ func TestEventErrors(t *testing.T) {
 
 func TestStart(t *testing.T) {
 	for n := range 100 {
-		x := snapOf(sample.State(n))
+		x := sample.Snap(sample.State(n))
 		for _, size := range []int{1, 2, 64, 4095, 4096} {
 			want := api.Tracer{Size: size, Gen: 1, Out: wire.Header() + batch.Encode(api.Batch{Gen: 1, Base: x.Time, Body: snap.Encode(x)})}
 			if got, e := tracer.Start(size, x); !sameTracer(got, want) || e != api.OK {
@@ -179,19 +175,6 @@ func wrongSnaps() []api.Snap {
 		{Ps: []api.PStat{{M: 1}, {M: 1}}},
 		{Ps: make([]api.PStat, 65)},
 	}
-}
-
-func snapOf(s api.State) api.Snap {
-	x := api.Snap{Time: s.Clock}
-	for _, p := range s.Ps {
-		x.Ps = append(x.Ps, api.PStat{M: p.M, Seq: p.Seq})
-	}
-	for i, g := range s.Gs {
-		if g.Status != api.GDead {
-			x.Gs = append(x.Gs, api.GStat{G: i + 1, Status: g.Status, M: g.M, Seq: g.Seq})
-		}
-	}
-	return x
 }
 
 func must(t *testing.T) func(api.Tracer, api.Errno) api.Tracer {
@@ -473,9 +456,9 @@ func TestTracesOfManyScripts(t *testing.T) {
 		}
 		d := sample.NewDice(n)
 		size := []int{1, 2, 10, 30, 64, 500, 4096}[n%7]
-		x := must(t)(tracer.Start(size, snapOf(s)))
+		x := must(t)(tracer.Start(size, sample.Snap(s)))
 		w := &twin{size: size, out: "SHTL\x01"}
-		w.begin(snapOf(s))
+		w.begin(sample.Snap(s))
 		for i, item := range sample.Items(n+50, 150) {
 			for _, l := range sample.Do(&s, item) {
 				x = must(t)(tracer.Put(x, l))
@@ -487,9 +470,9 @@ func TestTracesOfManyScripts(t *testing.T) {
 				w.seal(m)
 			}
 			if d.Roll(40) == 0 {
-				x = must(t)(tracer.Next(x, snapOf(s)))
+				x = must(t)(tracer.Next(x, sample.Snap(s)))
 				w.end()
-				w.begin(snapOf(s))
+				w.begin(sample.Snap(s))
 			}
 			if !sameTracer(x, w.tracer()) {
 				t.Fatalf("script %d, item %d: %+v, want %+v", n, i, x, w.tracer())
@@ -531,7 +514,7 @@ func TestSizesAndFlushesDoNotChangeTheStreams(t *testing.T) {
 		var want map[int]string
 		for _, size := range []int{1, 5, 16, 200, 4096} {
 			s := sample.State(n)
-			x := must(t)(tracer.Start(size, snapOf(s)))
+			x := must(t)(tracer.Start(size, sample.Snap(s)))
 			d := sample.NewDice(size)
 			for _, item := range sample.Items(n, 100) {
 				for _, l := range sample.Do(&s, item) {
@@ -612,7 +595,7 @@ func TestAnswersAreNewMemory(t *testing.T) {
 		for _, l := range x.Stacks {
 			clear(l)
 		}
-		if !sameTable(y, some()) {
+		if !sample.SameTable(y, some()) {
 			t.Errorf("Event of kind %d shares memory with the table", k)
 		}
 	}
